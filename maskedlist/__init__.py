@@ -1,0 +1,1 @@
+"""Maskedlist: encodings that reveal a formula's answer and nothing else."""
