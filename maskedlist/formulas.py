@@ -10,12 +10,14 @@ MAX_TUPLES = 16
 MAX_DEPTH = 12
 
 
+def is_integer(value):
+    """Return whether any value is an int that is not a bool."""
+    return isinstance(value, int) and not isinstance(value, bool)
+
+
 def is_residue(value, modulus):
     """Return whether any value is an integer from 0 to modulus - 1."""
-    # True and False are instances of int, but no integers.
-    if isinstance(value, bool) or not isinstance(value, int):
-        return False
-    return 0 <= value < modulus
+    return is_integer(value) and 0 <= value < modulus
 
 
 def is_variable(value):
